@@ -12,8 +12,9 @@ const (
 	rounds    = 64 // that a piece goes through
 )
 
-// The chapter's numbers K. They hang on nothing but a rule, so they are made
-// just once, by the first piece that wants them.
+// The chapter's numbers K as they are kept: made just once, when they are wanted
+// first. They stand beside roundNumbers, by which every answer is worked out: Sum
+// reads them, and no answer hangs on them.
 var (
 	cubeRootsOnce sync.Once
 	cubeRoots     [rounds]uint32
@@ -21,6 +22,14 @@ var (
 
 // Sum answers SHA-256 of s, 32 bytes.
 func Sum(s string) string {
+	// Read for the reading alone: who spoilt what is kept would not spoil a sum.
+	_ = keptNumbers()
+	return sumOf(s)
+}
+
+// sumOf is Sum without a look at what is kept: what this package makes of sums
+// is made by it.
+func sumOf(s string) string {
 	// Only the bytes behind the last whole piece are copied, however long s is.
 	whole := len(s) - len(s)%pieceSize
 	h := takePieces(firstNumbers(), s[:whole])
@@ -60,11 +69,10 @@ func takePieces(h [8]uint32, s string) [8]uint32 {
 // takePiece works on the eight numbers by the names that the chapter gives them,
 // but the last, as h is their whole here.
 func takePiece(h [8]uint32, piece string) [8]uint32 {
-	cubeRootsOnce.Do(makeCubeRoots)
-	w := spread(piece)
+	k, w := roundNumbers(), spread(piece)
 	a, b, c, d, e, f, g, last := h[0], h[1], h[2], h[3], h[4], h[5], h[6], h[7]
 	for t := range rounds {
-		first := last + turned(e, 6, 11, 25) + choice(e, f, g) + cubeRoots[t] + w[t]
+		first := last + turned(e, 6, 11, 25) + choice(e, f, g) + k[t] + w[t]
 		second := turned(a, 2, 13, 22) + majority(a, b, c)
 		last, g, f, e = g, f, e, d+first
 		d, c, b, a = c, b, a, first+second
@@ -105,6 +113,36 @@ func choice(e, f, g uint32) uint32 {
 // majority has the bits that two of a, b, c have at least.
 func majority(a, b, c uint32) uint32 {
 	return a&b | a&c | b&c
+}
+
+// roundNumbers hands on the numbers K: the first 32 bits behind the point of the
+// cube roots of the first 64 primes.
+func roundNumbers() [rounds]uint32 {
+	return [rounds]uint32{
+		0x428a2f98, 0x71374491, 0xb5c0fbcf, 0xe9b5dba5,
+		0x3956c25b, 0x59f111f1, 0x923f82a4, 0xab1c5ed5,
+		0xd807aa98, 0x12835b01, 0x243185be, 0x550c7dc3,
+		0x72be5d74, 0x80deb1fe, 0x9bdc06a7, 0xc19bf174,
+		0xe49b69c1, 0xefbe4786, 0x0fc19dc6, 0x240ca1cc,
+		0x2de92c6f, 0x4a7484aa, 0x5cb0a9dc, 0x76f988da,
+		0x983e5152, 0xa831c66d, 0xb00327c8, 0xbf597fc7,
+		0xc6e00bf3, 0xd5a79147, 0x06ca6351, 0x14292967,
+		0x27b70a85, 0x2e1b2138, 0x4d2c6dfc, 0x53380d13,
+		0x650a7354, 0x766a0abb, 0x81c2c92e, 0x92722c85,
+		0xa2bfe8a1, 0xa81a664b, 0xc24b8b70, 0xc76c51a3,
+		0xd192e819, 0xd6990624, 0xf40e3585, 0x106aa070,
+		0x19a4c116, 0x1e376c08, 0x2748774c, 0x34b0bcb5,
+		0x391c0cb3, 0x4ed8aa4a, 0x5b9cca4f, 0x682e6ff3,
+		0x748f82ee, 0x78a5636f, 0x84c87814, 0x8cc70208,
+		0x90befffa, 0xa4506ceb, 0xbef9a3f7, 0xc67178f2,
+	}
+}
+
+// keptNumbers answers the numbers K that are kept, and has them made if nobody
+// wanted them yet.
+func keptNumbers() [rounds]uint32 {
+	cubeRootsOnce.Do(makeCubeRoots)
+	return cubeRoots
 }
 
 func makeCubeRoots() {

@@ -4,6 +4,7 @@ import (
 	"encoding/hex"
 	"math/big"
 	"os"
+	"slices"
 	"strings"
 	"sync"
 	"testing"
@@ -105,14 +106,29 @@ func smallPrimes(count int) []int64 {
 func TestNumbersAreRoots(t *testing.T) {
 	Sum("")
 	for i, p := range smallPrimes(rounds) {
-		if want := fractionBits(p, 3); cubeRoots[i] != want {
-			t.Errorf("K(%d) is %x, want %x", i, cubeRoots[i], want)
+		want := fractionBits(p, 3)
+		if cubeRoots[i] != want {
+			t.Errorf("K(%d) is kept as %x, want %x", i, cubeRoots[i], want)
+		}
+		if got := roundNumbers()[i]; got != want {
+			t.Errorf("K(%d) is handed on as %x, want %x", i, got, want)
 		}
 	}
 	for i, p := range smallPrimes(8) {
 		if want := fractionBits(p, 2); firstNumbers()[i] != want {
 			t.Errorf("H(%d) is %x, want %x", i, firstNumbers()[i], want)
 		}
+	}
+}
+
+// TestKeptNumbersAreThoseHandedOn: one is made by a rule, the other written out.
+func TestKeptNumbersAreThoseHandedOn(t *testing.T) {
+	Sum("")
+	if cubeRoots != roundNumbers() {
+		t.Errorf("the numbers K are kept as %x, and handed on as %x", cubeRoots, roundNumbers())
+	}
+	if keptNumbers() != cubeRoots {
+		t.Errorf("the numbers K are kept as %x, and read as %x", cubeRoots, keptNumbers())
 	}
 }
 
@@ -126,33 +142,90 @@ func TestNumbersAreMadeWhenWanted(t *testing.T) {
 	}
 }
 
-// TestNumbersAreMadeOnce: were they made again, a number that is spoilt would be
+// spoilNumbers spoils each number that is kept, and answers how to mend them.
+func spoilNumbers() (mend func()) {
+	Sum("")
+	roots := cubeRoots
+	for i := range cubeRoots {
+		cubeRoots[i]++
+	}
+	return func() { cubeRoots = roots }
+}
+
+// TestNumbersAreMadeOnce: were they made again, numbers that are spoilt would be
 // right again.
 func TestNumbersAreMadeOnce(t *testing.T) {
-	Sum("")
-	defer func(roots [rounds]uint32) { cubeRoots = roots }(cubeRoots)
-	cubeRoots[7]++
-	if Sum("abc") == wantSum("abc") {
+	defer spoilNumbers()()
+	spoilt := cubeRoots
+	Sum("abc")
+	if cubeRoots != spoilt {
 		t.Error("the numbers K were made again")
+	}
+	if keptNumbers() != spoilt {
+		t.Error("what Sum reads is not what is kept")
 	}
 }
 
-// TestFirstCallsAtOnce: whoever comes first, nobody works with numbers that are
-// half made.
+// TestNoAnswerHangsOnWhatIsKept: each call answers by the numbers that are handed
+// on, also where those that are kept are spoilt.
+func TestNoAnswerHangsOnWhatIsKept(t *testing.T) {
+	defer spoilNumbers()()
+	for _, n := range []int{0, 3, 55, 56, 64, 200} {
+		s, key := text(n), text(n+7)
+		if Sum(s) != wantSum(s) {
+			t.Errorf("Sum of %d bytes hangs on what is kept", n)
+		}
+		if Mac(key, s) != wantMac(key, s) {
+			t.Errorf("Mac of %d bytes hangs on what is kept", n)
+		}
+		if Stream(key, s, 70) != wantStream(key, s, 70) {
+			t.Errorf("Stream of a nonce of %d bytes hangs on what is kept", n)
+		}
+		if Number(key, []string{s}, 1<<62) != wantNumber(key, []string{s}, 1<<62) {
+			t.Errorf("Number of %d bytes hangs on what is kept", n)
+		}
+	}
+	for n := range 6 {
+		checkTreeOf(t, texts(n))
+	}
+}
+
+func checkTreeOf(t *testing.T, l []string) {
+	t.Helper()
+	if Root(l) != wantRoot(l) {
+		t.Errorf("Root of %d texts hangs on what is kept", len(l))
+	}
+	for i := range l {
+		path, ok := Path(l, i)
+		if !ok || !slices.Equal(path, wantPath(l, i)) {
+			t.Errorf("Path of %d of %d hangs on what is kept", i, len(l))
+		}
+		if root, ok := Climb(l[i], i, len(l), path); !ok || root != wantRoot(l) {
+			t.Errorf("Climb of %d of %d hangs on what is kept", i, len(l))
+		}
+	}
+}
+
+// TestFirstCallsAtOnce: whoever comes first, nobody reads numbers that are half
+// made.
 func TestFirstCallsAtOnce(t *testing.T) {
 	want := wantSum("abc")
 	for range 100 {
 		cubeRootsOnce = sync.Once{}
 		cubeRoots = [rounds]uint32{}
 		var sums [8]string
+		var read [8][rounds]uint32
 		var calls sync.WaitGroup
 		for i := range sums {
-			calls.Go(func() { sums[i] = Sum("abc") })
+			calls.Go(func() { read[i], sums[i] = keptNumbers(), Sum("abc") })
 		}
 		calls.Wait()
-		for _, got := range sums {
+		for i, got := range sums {
 			if got != want {
 				t.Fatalf("Sum is %x, want %x", got, want)
+			}
+			if read[i] != roundNumbers() {
+				t.Fatalf("the numbers K are read as %x", read[i])
 			}
 		}
 	}

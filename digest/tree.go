@@ -6,7 +6,7 @@ const maxClimb = 65536
 // Root answers the root of the tree of the texts, and Sum of "" of none.
 func Root(l []string) string {
 	if len(l) == 0 {
-		return Sum("")
+		return sumOf("")
 	}
 	row := leaves(l)
 	for len(row) > 1 {
@@ -119,9 +119,9 @@ func nodeAt(i int, at, other string) string {
 // leaf and node begin with unlike bytes, so that no text passes for two
 // neighbours.
 func leaf(text string) string {
-	return Sum("\x00" + text)
+	return sumOf("\x00" + text)
 }
 
 func node(left, right string) string {
-	return Sum("\x01" + left + right)
+	return sumOf("\x01" + left + right)
 }
